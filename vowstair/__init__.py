@@ -1,0 +1,1 @@
+"""Vowstair: sentences that speak of what can be shown of one another."""
