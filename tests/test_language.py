@@ -105,6 +105,105 @@ class LanguageTest(unittest.TestCase):
                 if isinstance(node, ast.Name) and isinstance(node.ctx, ast.Store):
                     self.assertFalse(hasattr(builtins, node.id), (path.name, node.id))
 
+    def test_constructs_that_rules_narrow_are_left_out(self):
+        # L6, L7, L19, L21, L23, L24: what does not occur cannot be used wrongly.
+        barred = (ast.GeneratorExp, ast.Set, ast.SetComp, ast.Lambda, ast.Try, ast.With, ast.Match, ast.NamedExpr,
+                  ast.Nonlocal, ast.Global, ast.AnnAssign, ast.Starred, ast.Assert, ast.Delete, ast.YieldFrom)
+        for path in files():
+            for node in nodes(path):
+                with self.subTest(path.name, line=getattr(node, "lineno", 0)):
+                    self.assertNotIsInstance(node, barred)
+                    if isinstance(node, ast.AugAssign):
+                        self.assertIsInstance(node.value, ast.Constant)
+                        self.assertIsInstance(node.target, ast.Name)
+
+    def test_l3_module_level(self):
+        plain = (ast.Constant, ast.Tuple, ast.Dict, ast.List, ast.Load)
+        for path in files():
+            tree = ast.parse(path.read_text(encoding="ascii"))
+            bound = []
+            for at, node in enumerate(tree.body):
+                with self.subTest(path.name, line=node.lineno):
+                    if isinstance(node, ast.Assign):
+                        self.assertEqual(len(node.targets), 1)
+                        self.assertTrue(all(isinstance(part, plain) for part in ast.walk(node.value)))
+                        bound.append(node.targets[0].id)
+                    elif isinstance(node, ast.ImportFrom):
+                        bound.extend([alias.asname or alias.name for alias in node.names])
+                    elif isinstance(node, ast.Expr):
+                        self.assertEqual(at, 0)
+                    else:
+                        self.assertIsInstance(node, (ast.FunctionDef, ast.ClassDef))
+                        bound.append(node.name)
+            self.assertEqual(sorted(set(bound)), sorted(bound), path.name)
+
+    def test_l5_decorators(self):
+        for path in files():
+            for node in nodes(path):
+                if isinstance(node, (ast.FunctionDef, ast.ClassDef)):
+                    found = [getattr(decorator, "id", None) for decorator in node.decorator_list]
+                    self.assertIn(found, ([], ["property"], ["classmethod"]), (path.name, node.name))
+
+    def test_l5_classes_with_items_are_not_iterable_by_index(self):
+        for path in files():
+            for node in nodes(path):
+                if isinstance(node, ast.ClassDef):
+                    methods = [part.name for part in node.body if isinstance(part, ast.FunctionDef)]
+                    self.assertEqual(sorted(set(methods)), sorted(methods))
+                    self.assertTrue("__getitem__" not in methods or "__iter__" in methods)
+
+    def test_l15_no_name_of_an_import_or_a_class_is_given_away(self):
+        for path in files():
+            found = nodes(path)
+            imports = [node for node in found if isinstance(node, ast.ImportFrom)]
+            taken = [alias.asname or alias.name for node in imports for alias in node.names]
+            taken += [node.name for node in found if isinstance(node, ast.ClassDef)]
+            given = [node.arg for node in found if isinstance(node, ast.arg)]
+            given += [node.id for node in found if isinstance(node, ast.Name) and isinstance(node.ctx, ast.Store)]
+            self.assertEqual([name for name in given if name in taken], [], path.name)
+
+    def test_l16_no_two_files_import_from_each_other(self):
+        known = {}
+        for path in files():
+            modules = [node.module for node in nodes(path) if isinstance(node, ast.ImportFrom)]
+            known["vowstair." + path.stem] = [module for module in modules if module.startswith("vowstair.")]
+        while known:
+            free = [module for module, others in known.items() if not any(other in known for other in others)]
+            self.assertNotEqual(free, [], known)
+            for module in free:
+                del known[module]
+
+    def test_l16_imported_names_are_defined_in_that_file(self):
+        for path in files():
+            for node in nodes(path):
+                if isinstance(node, ast.ImportFrom) and node.module.startswith("vowstair."):
+                    other = FOLDER / (node.module.partition(".")[2] + ".py")
+                    own = [part for part in ast.parse(other.read_text(encoding="ascii")).body]
+                    defined = [part.name for part in own if isinstance(part, (ast.FunctionDef, ast.ClassDef))]
+                    defined += [part.targets[0].id for part in own if isinstance(part, ast.Assign)]
+                    for alias in node.names:
+                        self.assertIn(alias.name, defined, path.name)
+
+    def test_l18_no_name_is_a_method_and_an_attribute(self):
+        methods, attributes = [], []
+        for path in files():
+            for node in nodes(path):
+                if isinstance(node, ast.ClassDef):
+                    methods += [part.name for part in node.body if isinstance(part, ast.FunctionDef)]
+                if isinstance(node, ast.Attribute) and isinstance(node.ctx, ast.Store):
+                    attributes.append(node.attr)
+        self.assertEqual(sorted(set(methods) & set(attributes)), [])
+
+    def test_l23_generators_are_iterated_at_once(self):
+        for path in files():
+            found = nodes(path)
+            at_once = [node.iter for node in found if isinstance(node, (ast.For, ast.comprehension))]
+            at_once += [node.args[0] for node in found if isinstance(node, ast.Call) and node.args
+                        and isinstance(node.func, ast.Name) and node.func.id in ("list", "tuple", "sorted")]
+            for node in found:
+                if isinstance(node, ast.Name) and node.id == "nodes_of":
+                    self.assertIn(node, [getattr(call, "func", None) for call in at_once], path.name)
+
 
 if __name__ == "__main__":
     unittest.main()
