@@ -115,18 +115,20 @@ class Book:
         """The list of the slots, pairs (level, sentence)."""
         return list(self._slots)
 
-    def solution(self, sentence):
-        """The solution of the book with a further sentence beside it."""
-        check_sentence(self._levels, sentence)
-        for name in names_in(sentence):
-            _check_known(self._pairs, name)
-        if len(slots_together([told for name, told in self._pairs] + [sentence])) > self.MAX_SLOTS:
+    def solution(self, sentences):
+        """The solution of the book with a list of further sentences beside it."""
+        for index, sentence in enumerate(sentences):
+            check_sentence(self._levels, sentence, index=index)
+        for sentence in sentences:
+            for name in names_in(sentence):
+                _check_known(self._pairs, name)
+        if len(slots_together([told for name, told in self._pairs] + sentences)) > self.MAX_SLOTS:
             raise TooMany(self.MAX_SLOTS)
-        return Solution(self._levels, self._pairs, [sentence])
+        return Solution(self._levels, self._pairs, sentences)
 
     def meaning(self, sentence):
         """The set of the rows at which a sentence stands."""
-        return Meaning(self._levels, self.solution(sentence).told_stair(0))
+        return Meaning(self._levels, self.solution([sentence]).told_stair(0))
 
     def stands(self, sentence, row):
         """Whether a sentence stands at a row."""

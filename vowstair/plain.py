@@ -10,7 +10,7 @@ def plain(book, sentence, *, limit=MAX_PLAIN):
     """A sentence without names, of at most limit nodes, that has the same meaning."""
     if limit < 1 or limit > MAX_PLAIN:
         raise InvalidLimit(limit)
-    solution = book.solution(sentence)
+    solution = book.solution([sentence])
     found = _told(solution, 0, (), solution.ladder())
     if size_of(found) > limit:
         raise TooLong(limit)
