@@ -1,4 +1,4 @@
-"""The names, parameters and files of the document's interface, as far as it is built."""
+"""The names, parameters and files of the document's interface."""
 
 import importlib
 import inspect
@@ -21,6 +21,14 @@ FUNCTIONS = {
     "evaluation": ["meaning_of(levels, sentence, *, names=())"],
     "ladders": ["ladder_of(book)", "ladder_holds(book, ladder)"],
     "plain": ["plain(book, sentence, *, limit=20000)"],
+    "notation": [
+        "format_ordinal(ordinal)", "format_row(row)", "format_sentence(sentence)", "parse_ordinal(text)",
+        "parse_row(levels, text)", "parse_sentence(levels, text)",
+    ],
+    "verdicts": ["compare(book, one, other)"],
+    "derivations": ["derivation_holds(book, steps)", "first_gap(book, steps)"],
+    "doers": ["act_name(one, other)"],
+    "pages": ["page(store)", "read_page(text)"],
 }
 # For each class: its own methods, its class methods and its properties.
 CLASSES = {
@@ -35,14 +43,30 @@ CLASSES = {
          "extended(self, name, sentence)", "without(self, name)", "renamed(self, name, other)", "inlined(self, name)"],
         ["empty(levels)", "made_of(levels, **sentences)"], ["levels"],
     ),
+    ("verdicts", "Verdict"): (["__init__(self, levels, row)", "told(self)"], [], []),
+    ("verdicts", "Alike"): (["__init__(self, levels)", "told(self)"], [], []),
+    ("verdicts", "Parted"): (["__init__(self, levels, row, first)", "told(self)"], [], []),
+    ("doers", "Field"): (
+        ["__init__(self, levels, rules)", "doers(self)", "book(self)", "acts(self, one, other)", "walk(self)",
+         "chart(self)"], [], [],
+    ),
+    ("store", "Store"): (
+        ["__init__(self, *, levels=2, limit=12)", "set_limit(self, value)", "do(self, command)",
+         "do_all(self, commands)", "is_busy(self)", "undo(self)", "redo(self)", "history(self)", "book(self)",
+         "ask(self, sentence)", "kept(self)", "twin(self)"], [], ["limit", "solved"],
+    ),
+    ("desk", "Desk"): (["__init__(self, *, store=None)", "store(self)", "say(self, line)"], [], []),
 }
 OPERATORS = {
     ("meanings", "Meaning"): ["__add__", "__mul__", "__neg__", "__contains__", "__bool__", "__eq__", "__repr__"],
     ("books", "Book"): ["__getitem__", "__contains__", "__len__", "__eq__", "__repr__"],
+    ("verdicts", "Verdict"): ["__bool__"], ("verdicts", "Alike"): ["__bool__"], ("verdicts", "Parted"): ["__bool__"],
+    ("store", "Store"): ["__len__", "__eq__", "__repr__"],
 }
 VALUES = {
     "ordinals": {"ZERO": (), "ONE": (((), 1),), "OMEGA": (((((), 1),), 1),)}, "rows": {"MAX_LEVELS": 3},
     "sentences": {"TRUE": ("true",), "FALSE": ("false",)}, "plain": {"MAX_PLAIN": 20000},
+    "doers": {"MAX_DOERS": 3}, "store": {"MOST_NAMES": 12},
 }
 
 
@@ -85,8 +109,14 @@ class InterfaceTest(unittest.TestCase):
             for name, value in values.items():
                 self.assertEqual(getattr(file_of(word), name), value)
 
-    def test_nodes_of_is_a_generator(self):
+    def test_what_yields(self):
         self.assertTrue(inspect.isgeneratorfunction(file_of("sentences").nodes_of))
+        self.assertTrue(inspect.isgeneratorfunction(file_of("doers").Field.walk))
+
+    def test_the_limit_of_a_store_can_be_assigned(self):
+        store = file_of("store").Store
+        self.assertIsNotNone(vars(store)["limit"].fset)
+        self.assertIsNone(vars(store)["solved"].fset)
 
 
 if __name__ == "__main__":

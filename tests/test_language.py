@@ -27,6 +27,11 @@ def files():
     return [path for path in sorted(FOLDER.rglob("*")) if path.is_file() and "__pycache__" not in path.parts]
 
 
+def is_builtin(name):
+    # A doctest in the same process makes _ a builtin.
+    return name != "_" and hasattr(builtins, name)
+
+
 def nodes(path):
     return list(ast.walk(ast.parse(path.read_text(encoding="ascii"))))
 
@@ -87,7 +92,7 @@ class LanguageTest(unittest.TestCase):
     def test_l8_builtins(self):
         known = set(BUILTINS)
         for path in files():
-            found = [node.id for node in nodes(path) if isinstance(node, ast.Name) and hasattr(builtins, node.id)]
+            found = [node.id for node in nodes(path) if isinstance(node, ast.Name) and is_builtin(node.id)]
             self.assertEqual([name for name in found if name not in known], [], path.name)
 
     def test_l12_l15_l17_names(self):
@@ -101,13 +106,13 @@ class LanguageTest(unittest.TestCase):
         for path in files():
             for node in nodes(path):
                 if isinstance(node, ast.arg):
-                    self.assertFalse(hasattr(builtins, node.arg), (path.name, node.arg))
+                    self.assertFalse(is_builtin(node.arg), (path.name, node.arg))
                 if isinstance(node, ast.Name) and isinstance(node.ctx, ast.Store):
-                    self.assertFalse(hasattr(builtins, node.id), (path.name, node.id))
+                    self.assertFalse(is_builtin(node.id), (path.name, node.id))
 
     def test_constructs_that_rules_narrow_are_left_out(self):
         # L6, L7, L19, L21, L23, L24: what does not occur cannot be used wrongly.
-        barred = (ast.GeneratorExp, ast.Set, ast.SetComp, ast.Lambda, ast.Try, ast.With, ast.Match, ast.NamedExpr,
+        barred = (ast.GeneratorExp, ast.Set, ast.SetComp, ast.Lambda, ast.With, ast.Match, ast.NamedExpr,
                   ast.Nonlocal, ast.Global, ast.AnnAssign, ast.Starred, ast.Assert, ast.Delete, ast.YieldFrom)
         for path in files():
             for node in nodes(path):
@@ -115,7 +120,30 @@ class LanguageTest(unittest.TestCase):
                     self.assertNotIsInstance(node, barred)
                     if isinstance(node, ast.AugAssign):
                         self.assertIsInstance(node.value, ast.Constant)
-                        self.assertIsInstance(node.target, ast.Name)
+                        self.assertIsInstance(node.target, (ast.Name, ast.Attribute))
+
+    def test_l6_l19_own_errors_are_caught_by_name(self):
+        own = {node.name for node in nodes(FOLDER / "errors.py") if isinstance(node, ast.ClassDef)}
+        for path in files():
+            for node in nodes(path):
+                if isinstance(node, ast.Try):
+                    for handler in node.handlers:
+                        kinds = getattr(handler.type, "elts", [handler.type])
+                        self.assertLessEqual({kind.id for kind in kinds}, own, path.name)
+                    # A finally sets attributes to plain values.
+                    for last in node.finalbody:
+                        self.assertIsInstance(last, ast.Assign)
+                        self.assertIsInstance(last.targets[0], ast.Attribute)
+                        self.assertIsInstance(last.value, ast.Constant)
+
+    def test_l19_errors_are_created_where_they_are_raised(self):
+        own = {node.name for node in nodes(FOLDER / "errors.py") if isinstance(node, ast.ClassDef)} | {"TypeError"}
+        for path in files():
+            for node in nodes(path):
+                if isinstance(node, ast.Raise):
+                    self.assertIsInstance(node.exc, ast.Call, path.name)
+                    self.assertIn(node.exc.func.id, own)
+                    self.assertTrue(node.cause is None or node.cause.value is None)
 
     def test_l3_module_level(self):
         plain = (ast.Constant, ast.Tuple, ast.Dict, ast.List, ast.Load)
@@ -141,14 +169,17 @@ class LanguageTest(unittest.TestCase):
         for path in files():
             for node in nodes(path):
                 if isinstance(node, (ast.FunctionDef, ast.ClassDef)):
-                    found = [getattr(decorator, "id", None) for decorator in node.decorator_list]
-                    self.assertIn(found, ([], ["property"], ["classmethod"]), (path.name, node.name))
+                    found = [ast.unparse(decorator) for decorator in node.decorator_list]
+                    known = ([], ["property"], ["classmethod"], [node.name + ".setter"])
+                    self.assertIn(found, known, (path.name, node.name))
 
     def test_l5_classes_with_items_are_not_iterable_by_index(self):
         for path in files():
             for node in nodes(path):
                 if isinstance(node, ast.ClassDef):
-                    methods = [part.name for part in node.body if isinstance(part, ast.FunctionDef)]
+                    own = [part for part in node.body if isinstance(part, ast.FunctionDef)]
+                    setters = [part for part in own for word in part.decorator_list if isinstance(word, ast.Attribute)]
+                    methods = [part.name for part in own if part not in setters]
                     self.assertEqual(sorted(set(methods)), sorted(methods))
                     self.assertTrue("__getitem__" not in methods or "__iter__" in methods)
 
@@ -203,6 +234,8 @@ class LanguageTest(unittest.TestCase):
             for node in found:
                 if isinstance(node, ast.Name) and node.id == "nodes_of":
                     self.assertIn(node, [getattr(call, "func", None) for call in at_once], path.name)
+                # The other one that yields is not used by the package.
+                self.assertFalse(isinstance(node, ast.Attribute) and node.attr == "walk", path.name)
 
 
 if __name__ == "__main__":
